@@ -1,0 +1,49 @@
+package tests
+
+import "testing"
+
+// overlap says whether two lists have an element's memory in common, that behind their ends too.
+func overlap[T any](a []T, b []T) bool {
+	a, b = a[:cap(a)], b[:cap(b)]
+	for i := range a {
+		for j := range b {
+			if &a[i] == &b[j] {
+				return true
+			}
+		}
+	}
+	return false
+}
+
+// apart tells lists of an answer that share memory with each other or with one of the arguments.
+func apart[T any](t *testing.T, answer [][]T, arguments [][]T) {
+	t.Helper()
+	for i, list := range answer {
+		for j, other := range answer[:i] {
+			if overlap(list, other) {
+				t.Errorf("lists %d and %d of the answer share memory", j, i)
+			}
+		}
+		for j, other := range arguments {
+			if overlap(list, other) {
+				t.Errorf("list %d of the answer shares memory with argument %d", i, j)
+			}
+		}
+	}
+}
+
+// numbers draws whole numbers by a rule of its own, so that each run has the same ones.
+type numbers struct {
+	state uint64
+}
+
+func (n *numbers) next() int64 {
+	n.state = n.state*6364136223846793005 + 1442695040888963407
+	mixed := n.state ^ n.state>>29
+	return int64(mixed * 0x9E3779B97F4A7C15)
+}
+
+// below draws a number from 0 to most - 1.
+func (n *numbers) below(most int64) int64 {
+	return int64(uint64(n.next()) >> 1 % uint64(most))
+}
