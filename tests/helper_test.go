@@ -47,3 +47,18 @@ func (n *numbers) next() int64 {
 func (n *numbers) below(most int64) int64 {
 	return int64(uint64(n.next()) >> 1 % uint64(most))
 }
+
+// textsOf are all texts of up to so many pieces that there are as many as asked for, or more.
+func textsOf(pieces []string, atLeast int) []string {
+	texts := []string{""}
+	for from := 0; len(texts) < atLeast; {
+		upTo := len(texts)
+		for _, text := range texts[from:upTo] {
+			for _, piece := range pieces {
+				texts = append(texts, text+piece)
+			}
+		}
+		from = upTo
+	}
+	return texts
+}

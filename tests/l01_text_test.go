@@ -120,17 +120,7 @@ func TestParseFracCodes(t *testing.T) {
 // Every text of up to six of these pieces, held against the slow reader.
 func TestParseFracOfAllShortTexts(t *testing.T) {
 	pieces := []string{"-", "0", "3", ".", "/", "x", "\xff", "\u00e9"}
-	texts := []string{""}
-	for from := 0; len(texts) < 300000; {
-		upTo := len(texts)
-		for _, text := range texts[from:upTo] {
-			for _, piece := range pieces {
-				texts = append(texts, text+piece)
-			}
-		}
-		from = upTo
-	}
-	for _, text := range texts {
+	for _, text := range textsOf(pieces, 300000) {
 		if got, want := impl.ParseFrac(text), readSlowly(text); got != want {
 			t.Fatalf("ParseFrac(%q) = %v, want %v", text, got, want)
 		}
