@@ -156,8 +156,13 @@ func withinBounds(f Frac) bool {
 	return f.Den >= 1 && f.Den <= MaxNum && f.Num >= -MaxNum && f.Num <= MaxNum
 }
 
-func anyFracFault(a Frac, b Frac) bool {
-	return FracFault(a) != OK || FracFault(b) != OK
+func anyFracFault(list ...Frac) bool {
+	for _, f := range list {
+		if FracFault(f) != OK {
+			return true
+		}
+	}
+	return false
 }
 
 // quotientOf takes a den other than 0, and sizes of both up to twice maxWhole: a sum of two right fractions comes so far.
