@@ -72,11 +72,12 @@ func netCodeByWords(n impl.Net) int64 {
 	return impl.OK
 }
 
-// netArgs are what a call is given of a net, of its lights and of a path.
+// netArgs are what a call is given of a net, of its lights, of a path and of guards.
 type netArgs struct {
-	net  impl.Net
-	lits []impl.Lit
-	path []int64
+	net    impl.Net
+	lits   []impl.Lit
+	path   []int64
+	guards []impl.Guard
 }
 
 // withRoom shares nothing with the arguments, and has room behind all ends.
@@ -87,6 +88,7 @@ func (a netArgs) withRoom() netArgs {
 		a.lits[i].Path = roomy(a.lits[i].Path, 13)
 	}
 	a.path = roomy(a.path, 12)
+	a.guards = roomy(a.guards, impl.Guard{Work: 998, Spare: 999})
 	return a
 }
 
@@ -98,7 +100,22 @@ func (a netArgs) picture() string {
 		lengths = append(lengths, len(lit.Path))
 		lits[i].Path = lit.Path[:cap(lit.Path)]
 	}
-	return fmt.Sprint(a.net.Fibres[:cap(a.net.Fibres)], lits, lengths, a.path[:cap(a.path)])
+	return fmt.Sprint(a.net.Fibres[:cap(a.net.Fibres)], lits, lengths, a.path[:cap(a.path)], a.guards[:cap(a.guards)])
+}
+
+func pathsOf(lits []impl.Lit) [][]int64 {
+	paths := [][]int64{}
+	for _, lit := range lits {
+		paths = append(paths, lit.Path)
+	}
+	return paths
+}
+
+// spoilAll writes over a list, behind its end too.
+func spoilAll[T any](list []T, with T) {
+	for i := range list[:cap(list)] {
+		list[:cap(list)][i] = with
+	}
 }
 
 // spoilAnswer writes wherever an answer's lists reach; no two of them may have memory in common.
@@ -114,15 +131,19 @@ func spoilAnswer(t *testing.T, answer any) {
 	case impl.WaveResult:
 		spoilRows([][]int64{told.List})
 	case impl.LitsResult:
-		paths := [][]int64{}
-		for _, lit := range told.Lits {
-			paths = append(paths, lit.Path)
-		}
-		holdOwnLists(t, paths)
-		all := told.Lits[:cap(told.Lits)]
-		for i := range all {
-			all[i] = impl.Lit{Id: -7, First: -7}
-		}
+		holdOwnLists(t, pathsOf(told.Lits))
+		spoilAll(told.Lits, impl.Lit{Id: -7, First: -7})
+	case impl.PairResult:
+		holdOwnLists(t, [][]int64{told.Work, told.Spare})
+	case impl.GuardResult:
+		holdOwnLists(t, pathsOf(told.Lits))
+		spoilAll(told.Lits, impl.Lit{Id: -7, First: -7})
+		spoilAll(told.Guards, impl.Guard{Work: -7, Spare: -7})
+	case impl.FailResult:
+		holdOwnLists(t, append(pathsOf(told.Lits), told.Switched, told.Bare, told.Rerouted, told.Lost))
+		spoilAll(told.Lits, impl.Lit{Id: -7, First: -7})
+	case impl.Net:
+		spoilAll(told.Fibres, fibreOf(-7, -7, -7))
 	}
 }
 
