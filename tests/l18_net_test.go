@@ -142,6 +142,10 @@ func spoilAnswer(t *testing.T, answer any) {
 	case impl.FailResult:
 		holdOwnLists(t, append(pathsOf(told.Lits), told.Switched, told.Bare, told.Rerouted, told.Lost))
 		spoilAll(told.Lits, impl.Lit{Id: -7, First: -7})
+	case impl.SlideResult:
+		holdOwnLists(t, pathsOf(told.Lits))
+		spoilAll(told.Lits, impl.Lit{Id: -7, First: -7})
+		spoilAll(told.Slides, impl.Slide{Id: -7, To: -7})
 	case impl.Net:
 		spoilAll(told.Fibres, fibreOf(-7, -7, -7))
 	}
