@@ -72,12 +72,14 @@ func netCodeByWords(n impl.Net) int64 {
 	return impl.OK
 }
 
-// netArgs are what a call is given of a net, of its lights, of a path and of guards.
+// netArgs are what a call is given of a net, of its lights, of a path, of guards, of orders and of hops.
 type netArgs struct {
 	net    impl.Net
 	lits   []impl.Lit
 	path   []int64
 	guards []impl.Guard
+	orders []impl.Order
+	hops   []impl.Hop
 }
 
 // withRoom shares nothing with the arguments, and has room behind all ends.
@@ -89,6 +91,8 @@ func (a netArgs) withRoom() netArgs {
 	}
 	a.path = roomy(a.path, 12)
 	a.guards = roomy(a.guards, impl.Guard{Work: 998, Spare: 999})
+	a.orders = roomy(a.orders, impl.Order{Up: true, Need: needOf(997, 0, 1, 1, 1000)})
+	a.hops = roomy(a.hops, impl.Hop{Kind: impl.HopGo, Node: 9, Fibre: 9})
 	return a
 }
 
@@ -100,7 +104,7 @@ func (a netArgs) picture() string {
 		lengths = append(lengths, len(lit.Path))
 		lits[i].Path = lit.Path[:cap(lit.Path)]
 	}
-	return fmt.Sprint(a.net.Fibres[:cap(a.net.Fibres)], lits, lengths, a.path[:cap(a.path)], a.guards[:cap(a.guards)])
+	return fmt.Sprint(a.net.Fibres[:cap(a.net.Fibres)], lits, lengths, a.path[:cap(a.path)], a.guards[:cap(a.guards)], a.orders[:cap(a.orders)], a.hops[:cap(a.hops)])
 }
 
 func pathsOf(lits []impl.Lit) [][]int64 {
@@ -146,6 +150,15 @@ func spoilAnswer(t *testing.T, answer any) {
 		holdOwnLists(t, pathsOf(told.Lits))
 		spoilAll(told.Lits, impl.Lit{Id: -7, First: -7})
 		spoilAll(told.Slides, impl.Slide{Id: -7, To: -7})
+	case impl.NeighbourList:
+		spoilAll(told.List, impl.Neighbour{Node: -7, Fibre: -7})
+	case impl.SignalResult:
+		holdOwnLists(t, pathsOf(told.Lits))
+		spoilAll(told.Lits, impl.Lit{Id: -7, First: -7})
+		spoilAll(told.Hops, impl.Hop{Kind: -7, Node: -7, Fibre: -7})
+	case impl.OrdersResult:
+		holdOwnLists(t, append(pathsOf(told.Lits), told.Codes))
+		spoilAll(told.Lits, impl.Lit{Id: -7, First: -7})
 	case impl.Net:
 		spoilAll(told.Fibres, fibreOf(-7, -7, -7))
 	}
