@@ -1,6 +1,9 @@
 package tests
 
-import "testing"
+import (
+	"fmt"
+	"testing"
+)
 
 // overlap says whether two lists have an element's memory in common, that behind their ends too.
 func overlap[T any](a []T, b []T) bool {
@@ -61,4 +64,33 @@ func textsOf(pieces []string, atLeast int) []string {
 		from = upTo
 	}
 	return texts
+}
+
+// callArgs are what a call is given: withRoom shares nothing with them and has room behind all ends, picture tells all that they reach, behind all ends too.
+type callArgs[A any] interface {
+	withRoom() A
+	picture() string
+}
+
+// holdCall asks twice and writes into the first answer; neither the second one nor the arguments may show it.
+func holdCall[A callArgs[A], T any](t *testing.T, what string, args A, ask func(A) T, want T) {
+	t.Helper()
+	told := fmt.Sprint(want)
+	for _, given := range []A{args, args.withRoom()} {
+		kept := given.picture()
+		got, again := ask(given), ask(given)
+		if fmt.Sprint(got) != told {
+			t.Errorf("%s of %s: %s, want %s", what, brief(args), brief(got), brief(want))
+		}
+		if given.picture() != kept {
+			t.Errorf("%s changes %s", what, brief(args))
+		}
+		spoilAnswer(t, got)
+		if fmt.Sprint(again) != told {
+			t.Errorf("%s of %s: %s when asked again, want %s", what, brief(args), brief(again), brief(want))
+		}
+		if given.picture() != kept {
+			t.Errorf("%s shares memory with %s", what, brief(args))
+		}
+	}
 }
