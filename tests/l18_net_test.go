@@ -166,6 +166,10 @@ func spoilAnswer(t *testing.T, answer any) {
 	case impl.PathResult:
 		holdOwnLists(t, append(slices.Clone(told.Points), told.Merits))
 		spoilRows(told.Points)
+	case impl.FlawResult:
+		spoilAll(told.Flaws, impl.Flaw{Kind: -7, I: -7, J: -7})
+	case []impl.Rect:
+		spoilAll(told, rectOf(-7, -7, -7, -7, -7))
 	}
 }
 
