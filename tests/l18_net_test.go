@@ -170,6 +170,10 @@ func spoilAnswer(t *testing.T, answer any) {
 		spoilAll(told.Flaws, impl.Flaw{Kind: -7, I: -7, J: -7})
 	case []impl.Rect:
 		spoilAll(told, rectOf(-7, -7, -7, -7, -7))
+	case impl.StepResult:
+		spoilBench(t, told.Bench)
+	case impl.RunResult:
+		spoilBench(t, told.Bench)
 	}
 }
 
