@@ -68,13 +68,12 @@ func TestBenchReplayOfCodes(t *testing.T) {
 // TestBenchReplayOfEachByte: another byte at each place, a log cut short at each place, and one that goes on.
 func TestBenchReplayOfEachByte(t *testing.T) {
 	for at := range len(longLog) {
-		place := int64(at)
-		holdBenchReplay(t, longScript, longLog[:at], place)
-		for _, other := range []string{"\x00", "\xff", "~"} {
-			holdBenchReplay(t, longScript, longLog[:at]+other+longLog[at+1:], place)
-			holdBenchReplay(t, longScript, longLog[:at]+other, place)
+		ahead, behind := longLog[:at], longLog[at+1:]
+		for _, log := range []string{ahead, ahead + "\x00" + behind, ahead + "\xff" + behind, ahead + "~", ahead + "~" + behind, ahead + "~" + longLog} {
+			if got := impl.ReplayBench(longScript, log); got != int64(at) {
+				t.Errorf("unlike at %d: ReplayBench tells %d", at, got)
+			}
 		}
-		holdBenchReplay(t, longScript, longLog[:at]+"\xf0"+strings.Repeat("x", 100), place)
 	}
 	for _, more := range []string{"\n", " ", "show 1 1 0\n", "\x00", strings.Repeat("x", 5000)} {
 		holdBenchReplay(t, longScript, longLog+more, int64(len(longLog)))
