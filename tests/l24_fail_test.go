@@ -64,6 +64,27 @@ func TestStepOfFailLists(t *testing.T) {
 	holdRefused(t, benchOf(netOf(1, 1), nil, nil), impl.ErrRange, "fail 0", "fail 1")
 }
 
+// TestStepOfFailBesideTheLeastIds: a guard stays wherever its two lights stand, the first place of the list among them.
+func TestStepOfFailBesideTheLeastIds(t *testing.T) {
+	n := netOf(4, 4, fibreOf(0, 1, 10), fibreOf(1, 2, 10), fibreOf(0, 2, 30), fibreOf(2, 3, 5))
+	short, long := []int64{0}, []int64{2, 1}
+	for _, ids := range [][]int64{{1, 2}, {2, 1}, {1, 9}, {9, 1}} {
+		work, spare := litOf(ids[0], 0, 1, 0, 1, short...), litOf(ids[1], 0, 1, 0, 1, long...)
+		lits := []impl.Lit{work, spare}
+		if ids[0] > ids[1] {
+			lits = []impl.Lit{spare, work}
+		}
+		b := benchOf(n, lits, []impl.Guard{guardOf(ids[0], ids[1])})
+		holdSaid(t, b, "fail 3", "fail 3 switched bare rerouted lost", func(*impl.Bench) {})
+		holdSaid(t, b, "fail 0", fmt.Sprintf("fail 0 switched %d bare rerouted lost", ids[0]), func(b *impl.Bench) {
+			b.Lits, b.Guards = []impl.Lit{spare}, nil
+		})
+		holdSaid(t, b, "fail 1", fmt.Sprintf("fail 1 switched bare %d rerouted lost", ids[0]), func(b *impl.Bench) {
+			b.Lits, b.Guards = []impl.Lit{work}, nil
+		})
+	}
+}
+
 // listTold is one of the lists behind its word.
 func listTold(say string, word string, next string) []int64 {
 	_, behind, _ := strings.Cut(say, " "+word)
